@@ -3,14 +3,9 @@ package compiler
 
 import (
 	"fathom/api"
+	"fathom/code"
 	"fathom/tokens"
 )
-
-// Program is the code of a text, and the number of the instruction that a run begins with.
-type Program struct {
-	List  []api.Instr
-	Entry int
-}
 
 type compiler struct {
 	reader      *tokens.Reader
@@ -20,26 +15,30 @@ type compiler struct {
 	here        *part // the one of the two that elements go to now
 	start       int64 // of the word that is being defined
 	names       map[string]api.Instr
-	cells       int64
+	cells       int
 	open        []thing
 }
 
 // Compile makes the code of a text; or tells what is wrong, and where.
-func Compile(text string) (Program, api.Errno, int) {
+func Compile(text string) (code.Program, api.Errno, int) {
 	if len(text) > api.MaxText {
-		return Program{}, api.ErrLong, 0
+		return code.Program{}, api.ErrLong, 0
 	}
 	c := newCompiler(text)
 	for token := c.next(); token != ""; token = c.next() {
 		if e := c.take(token); e != api.OK {
-			return Program{}, e, c.at
+			return code.Program{}, e, c.at
 		}
 	}
 	if len(c.open) > 0 {
-		return Program{}, api.ErrNest, c.at
+		return code.Program{}, api.ErrNest, c.at
 	}
 	c.main.add(plain(api.Halt))
-	return Program{join(c.definitions, c.main), len(c.definitions.list)}, api.OK, 0
+	return c.program(), api.OK, 0
+}
+
+func (c *compiler) program() code.Program {
+	return code.Program{List: join(c.definitions, c.main), Entry: len(c.definitions.list), Cells: c.cells}
 }
 
 func newCompiler(text string) *compiler {
@@ -115,7 +114,7 @@ func (c *compiler) define(k kind) api.Errno {
 	case colon:
 		c.openWord(name)
 	case variable:
-		c.names[name] = with(api.Lit, c.cells)
+		c.names[name] = with(api.Lit, int64(c.cells))
 		c.cells++
 	case constant:
 		n, ok := tokens.Number(c.next())

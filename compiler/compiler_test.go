@@ -62,8 +62,8 @@ func TestEachThingIsClosedByItsOwnTokensAlone(t *testing.T) {
 }
 
 func TestAnErrorGivesNoProgram(t *testing.T) {
-	for _, text := range []string{"1 x", "1 : 5", "1 if", "1 : a 2", strings.Repeat("1 ", 1001)} {
-		if p, e, _ := Compile(text); e == api.OK || p.List != nil || p.Entry != 0 {
+	for _, text := range []string{"1 x", "variable y 1 x", "1 : 5", "1 if", ": b ; 1 : a 2", strings.Repeat("1 ", 1001)} {
+		if p, e, _ := Compile(text); e == api.OK || p.List != nil || p.Entry != 0 || p.Cells != 0 {
 			t.Errorf("%.20q: %v, %d", text, p, e)
 		}
 	}

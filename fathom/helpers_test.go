@@ -1,6 +1,7 @@
 package fathom
 
 import (
+	"fmt"
 	"strings"
 	"testing"
 
@@ -16,6 +17,22 @@ func to(n int, k int64) api.Instr { return api.Instr{Op: n, Arg: k} }
 func lit(n int64) api.Instr { return to(api.Lit, n) }
 
 var halt, ret = op(api.Halt), op(api.Ret)
+
+var wide = api.Limits{Stack: 1000, Aside: 1000, Calls: 1000, Output: 1000}
+
+// brief tells a list, of a long one its end only.
+func brief(l instrs) string {
+	if n := len(l); n > 40 {
+		return fmt.Sprintf("%d instructions up to %v", n, l[n-10:])
+	}
+	return fmt.Sprint(l)
+}
+
+// told tells an outcome, of a long one its beginning only.
+func told(o api.Outcome) string {
+	s := fmt.Sprintf("%+v", o)
+	return s[:min(len(s), 300)]
+}
 
 // allOptions has each way to set the options.
 func allOptions() []api.Options {

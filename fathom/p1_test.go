@@ -1,6 +1,7 @@
 package fathom
 
 import (
+	"slices"
 	"strings"
 	"testing"
 
@@ -110,12 +111,95 @@ func TestP1TheErrorNamedFirst(t *testing.T) {
 	}
 }
 
-func TestP1ListWithoutCode(t *testing.T) {
-	c, _, _ := Compile("x", api.Options{})
-	if l, entry := c.List(); l != nil || entry != 0 {
-		t.Errorf("P1: List of what Compile gave with an error: %v, %d", l, entry)
+func TestP1MethodsWithoutCode(t *testing.T) {
+	compiled, _, _ := Compile("x", api.Options{})
+	loaded, _ := Load(nil, 0, 0)
+	for _, c := range []*Code{compiled, loaded, new(Code)} {
+		if l, entry := c.List(); len(l) != 0 || entry != 0 {
+			t.Errorf("P1: List of no code: %v, %d", l, entry)
+		}
+		for _, l := range []api.Limits{wide, {}} {
+			if o := c.Run(l, 5); !sameOutcome(o, api.Outcome{Err: api.ErrCode}) {
+				t.Errorf("P1: Run of no code: %v", o)
+			}
+		}
 	}
-	if l, entry := new(Code).List(); len(l) != 0 || entry != 0 {
-		t.Errorf("P1: List of empty code: %v, %d", l, entry)
+}
+
+// Numbers at which something may go wrong.
+var edges = []int{least, least + 1, -1 << 32, -1001, -1, 0, 1, 2, 3, 32, 33, 39, 40, 59, 60, 999, 1000, 1001, 4999, 5000, 5001, 1 << 32, 1<<32 + 1, most - 1, most}
+
+func TestP1AnyNumbersAndListsEnd(t *testing.T) {
+	c := &chance{7}
+	edge := func() int { return edges[c.below(len(edges))] }
+	runs := 0
+	for range 30000 {
+		l := make(instrs, c.below(5))
+		for i := range l {
+			l[i] = to(edge(), int64(edge()))
+			if c.below(4) > 0 {
+				l[i] = to(c.below(62)-1, int64(c.below(6)-1))
+			}
+		}
+		if c.below(4) > 0 {
+			l = append(l, halt)
+		}
+		entry, cells := c.below(4), c.below(4)
+		if c.below(4) == 0 {
+			entry, cells = edge(), edge()
+		}
+		x, e := Load(l, entry, cells)
+		if (x == nil) != (e == api.ErrCode) || x != nil && e != api.OK {
+			t.Fatalf("P1: Load(%v, %d, %d): code %v, %d", l, entry, cells, x != nil, e)
+		}
+		got, at := x.List()
+		limits := api.Limits{Stack: edge(), Aside: edge(), Calls: edge(), Output: edge()}
+		x.Run(limits, min(edge(), 10000))
+		if x == nil {
+			continue
+		}
+		if !slices.Equal(got, l) || at != entry {
+			t.Fatalf("P4: Load(%v, %d, %d): %v, %d", l, entry, cells, got, at)
+		}
+		checkModelled(t, l, entry, cells, wide, 50)
+		runs++
+	}
+	if runs < 4000 {
+		t.Errorf("only %d lists were code", runs)
+	}
+}
+
+// Loaded code need not be like what is compiled: it goes anywhere, calls and returns as it likes.
+func TestP1AnyCodeEnds(t *testing.T) {
+	c := &chance{8}
+	for range 20000 {
+		size := 1 + c.below(12)
+		l := make(instrs, size)
+		for i := range l {
+			n := c.below(53)
+			if n > api.LastBase {
+				n += 7
+			}
+			l[i] = to(n, int64(c.below(size)))
+		}
+		l[size-1].Op = []int{api.Jump, api.Ret, api.Halt}[c.below(3)]
+		limits := api.Limits{Stack: 1 + c.below(9), Aside: 1 + c.below(5), Calls: 1 + c.below(5), Output: 1 + c.below(9)}
+		checkModelled(t, l, c.below(size), c.below(5), limits, c.below(100))
+	}
+}
+
+func TestP1GreatCodeEnds(t *testing.T) {
+	l := slices.Repeat(instrs{to(api.LitAdd, 1)}, 5000)
+	l[0], l[4999] = lit(0), to(api.Jump, 1)
+	c, e := Load(l, 0, 1000)
+	if c == nil || e != api.OK {
+		t.Fatalf("P6: code %v, %d", c != nil, e)
+	}
+	if o := c.Run(wide, 1000000); !sameOutcome(o, api.Outcome{Err: api.ErrFuel, Steps: 1000000}) {
+		t.Errorf("P7: %v", told(o))
+	}
+	// As much fuel as there can be is no reason not to end.
+	if o := compiled(t, "100000 0 do loop").Run(wide, most); !sameOutcome(o, api.Outcome{Steps: 100004}) {
+		t.Errorf("P7: %v", told(o))
 	}
 }
