@@ -35,15 +35,16 @@ func isSound(l []api.Instr) bool {
 			return false
 		}
 	}
-	return mayBeLast(l[len(l)-1].Op)
+	return !GoesOn(l[len(l)-1].Op)
 }
 
 func isOperator(op int) bool {
 	return op >= api.Lit && op <= api.LastBase || op >= api.LitAdd && op <= api.LastSuper
 }
 
-// Behind every other operator a run may go on with the next instruction, which the last one has none of.
-func mayBeLast(op int) bool { return op == api.Jump || op == api.Ret || op == api.Halt }
+// GoesOn tells whether a run may go on with what stands behind such an instruction, which the last one may not, as
+// nothing does. (Behind a Call it may, by the Ret.)
+func GoesOn(op int) bool { return op != api.Jump && op != api.Ret && op != api.Halt }
 
 // NamesInstruction tells whether the number of such an instruction is that of an instruction.
 func NamesInstruction(op int) bool {

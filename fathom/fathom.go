@@ -8,6 +8,7 @@ import (
 	"fathom/code"
 	"fathom/compiler"
 	"fathom/machine"
+	"fathom/shorten"
 )
 
 // Code is a program that can be run.
@@ -19,7 +20,7 @@ func Compile(text string, o api.Options) (*Code, api.Errno, int) {
 	if e != api.OK {
 		return nil, e, at
 	}
-	return &Code{p}, api.OK, 0
+	return &Code{shorten.With(p, o)}, api.OK, 0
 }
 
 // Load makes code of instructions (P6).
@@ -47,5 +48,5 @@ func (c *Code) Run(l api.Limits, fuel int) api.Outcome {
 	if c.isNone() {
 		return api.Outcome{Err: api.ErrCode}
 	}
-	return machine.Run(c.program, l, fuel)
+	return machine.NewTable().Run(c.program, l, fuel)
 }

@@ -45,9 +45,14 @@ func allOptions() []api.Options {
 
 func compiled(t *testing.T, text string) *Code {
 	t.Helper()
-	c, e, at := Compile(text, api.Options{})
+	return compiledWith(t, text, api.Options{})
+}
+
+func compiledWith(t *testing.T, text string, o api.Options) *Code {
+	t.Helper()
+	c, e, at := Compile(text, o)
 	if c == nil || e != api.OK || at != 0 {
-		t.Fatalf("Compile(%.60q): code %v, error %d at %d", text, c != nil, e, at)
+		t.Fatalf("Compile(%.60q, %v): code %v, error %d at %d", text, o, c != nil, e, at)
 	}
 	return c
 }

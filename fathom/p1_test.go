@@ -48,6 +48,11 @@ func checkAnswer(t *testing.T, text string, o api.Options) {
 	if len(l) == 0 || entry < 0 || entry >= len(l) {
 		t.Fatalf("P1: %q: entry %d of %d instructions", text, entry, len(l))
 	}
+	for _, limits := range []api.Limits{wide, {Stack: 1, Aside: 1, Calls: 1, Output: 1}, {Stack: 4, Aside: 3, Calls: 2, Output: 5}} {
+		if out := c.Run(limits, 200); out.Steps < 1 || out.Steps > 200 || out.Err != api.OK && out.Err < api.ErrUnder {
+			t.Fatalf("P1: %q with %+v: %s", text, o, told(out))
+		}
+	}
 }
 
 func TestP1AnyTextEnds(t *testing.T) {
@@ -66,14 +71,17 @@ func TestP1AnyBytesEnd(t *testing.T) {
 		for i := range b {
 			b[i] = byte(c.below(256))
 		}
-		checkAnswer(t, string(b), api.Options{})
+		checkAnswer(t, string(b), allOptions()[c.below(8)])
 	}
 }
 
 func TestP1GreatTextsEnd(t *testing.T) {
-	for _, s := range []string{"if ", "begin ", "do ", "if else ", "begin while ", "1 ", "\x00", ": ", "a ", "variable ", "do loop ", ";"} {
+	for _, s := range []string{"if ", "begin ", "do ", "if else ", "begin while ", "1 ", "\x00", ": ", "a ", "variable ", "do loop ", ";", "1 2 + ", "5 drop ", "swap ", "1 + ",
+		"dup ", "0 if then ", "begin 0 until ", "1 2 3 rot ", ". 0 if 1 else 2 then "} {
 		for _, n := range []int{1998, 1999, 2000, 2001, 100000} {
-			checkAnswer(t, strings.Repeat(s, n/len(s)+1)[:n], api.Options{})
+			for _, o := range allOptions() {
+				checkAnswer(t, strings.Repeat(s, n/len(s)+1)[:n], o)
+			}
 		}
 	}
 }

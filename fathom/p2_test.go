@@ -19,19 +19,35 @@ func spoil(l []api.Instr) {
 }
 
 func TestP2ListsAreNewMemory(t *testing.T) {
-	c := compiled(t, ownText)
-	other := compiled(t, ownText)
-	first, _ := c.List()
-	want := slices.Clone(first)
-	second, _ := c.List()
-	spoil(first)
-	_ = append(first[:1], api.Instr{Op: -2}, api.Instr{Op: -2})
-	if !slices.Equal(second, want) {
-		t.Errorf("P2: a list that came out ahead is changed: %v", second)
+	for _, o := range allOptions() {
+		c, other := compiledWith(t, ownText, o), compiledWith(t, ownText, o)
+		first, at := c.List()
+		want := slices.Clone(first)
+		second, _ := c.List()
+		spoil(first)
+		_ = append(first[:1], api.Instr{Op: -2}, api.Instr{Op: -2})
+		if !slices.Equal(second, want) {
+			t.Errorf("P2: with %+v a list that came out ahead is changed: %v", o, second)
+		}
+		for _, code := range []*Code{c, other, compiledWith(t, ownText, o)} {
+			if l, entry := code.List(); !slices.Equal(l, want) || entry != at {
+				t.Errorf("P2: with %+v a list that came out later is changed: %v, %d", o, l, entry)
+			}
+		}
 	}
-	for _, code := range []*Code{c, other, compiled(t, ownText)} {
-		if l, entry := code.List(); !slices.Equal(l, want) || entry != 6 {
-			t.Errorf("P2: a list that came out later is changed: %v, %d", l, entry)
+}
+
+// What an option changes is not seen in code that was compiled with others.
+func TestP2CodeWithOtherOptionsStays(t *testing.T) {
+	plain := compiled(t, ownText)
+	want, at := plain.List()
+	for _, o := range allOptions() {
+		compiledWith(t, ownText, o).Run(wide, 1000)
+		if l, entry := plain.List(); !slices.Equal(l, want) || entry != at {
+			t.Errorf("P2: behind %+v: %v, %d", o, l, entry)
+		}
+		if l, entry := compiled(t, ownText).List(); !slices.Equal(l, want) || entry != at {
+			t.Errorf("P2: compiled behind %+v: %v, %d", o, l, entry)
 		}
 	}
 }
@@ -104,6 +120,20 @@ func spoilValues(l []int64) {
 	}
 }
 
+func TestP2OutcomesOfCompiledCodeAreNewMemory(t *testing.T) {
+	for _, o := range allOptions() {
+		c := compiledWith(t, "variable x variable y 3 4 x ! 1 2 + 5", o)
+		first, second := c.Run(wide, 100), c.Run(wide, 100)
+		spoilValues(first.Stack)
+		spoilValues(first.Cells)
+		for _, got := range []api.Outcome{second, c.Run(wide, 100)} {
+			if !slices.Equal(got.Stack, row{3, 3, 5}) || !slices.Equal(got.Cells, row{4, 0}) {
+				t.Errorf("P2: with %+v, when an outcome is written into, another is %v", o, got)
+			}
+		}
+	}
+}
+
 func TestP2OutcomesAreNewMemory(t *testing.T) {
 	c, _ := Load(storing, 0, 2)
 	want := api.Outcome{Stack: row{9}, Cells: row{0, 7}, Output: "A", Steps: 8}
@@ -126,8 +156,15 @@ func TestP2OutcomesAreNewMemory(t *testing.T) {
 }
 
 func TestP2ARunChangesNothingOfItsCode(t *testing.T) {
-	text := "variable x variable y : f x @ 1 + dup x ! y ! ; f f 5 >r x @ dup . 65 emit"
-	c := compiled(t, text)
+	for _, o := range allOptions() {
+		checkUnchanged(t, o)
+	}
+}
+
+func checkUnchanged(t *testing.T, o api.Options) {
+	t.Helper()
+	text := "variable x variable y : f x @ 1 + dup x ! y ! ; f f 5 >r x @ dup . 60 5 + emit"
+	c := compiledWith(t, text, o)
 	list, entry := c.List()
 	want := c.Run(wide, 1000)
 	if want.Err != api.OK || want.Output != "2 A" || !slices.Equal(want.Cells, row{2, 2}) {
@@ -139,20 +176,20 @@ func TestP2ARunChangesNothingOfItsCode(t *testing.T) {
 		c.Run(wide, fuel)
 		c.Run(tight, fuel)
 		c.Run(api.Limits{}, fuel)
-		if o := c.Run(wide, 1000); !sameOutcome(o, want) {
-			t.Fatalf("P2: behind runs with fuel %d: %v, want %v", fuel, o, want)
+		if got := c.Run(wide, 1000); !sameOutcome(got, want) {
+			t.Fatalf("P2: with %+v behind runs with fuel %d: %v, want %v", o, fuel, got, want)
 		}
 		if l, at := c.List(); !slices.Equal(l, list) || at != entry {
-			t.Fatalf("P2: behind runs with fuel %d: %v, %d", fuel, l, at)
+			t.Fatalf("P2: with %+v behind runs with fuel %d: %v, %d", o, fuel, l, at)
 		}
 	}
-	if o := compiled(t, text).Run(wide, 1000); !sameOutcome(o, want) {
-		t.Errorf("P2: the same text compiled again: %v, want %v", o, want)
+	if got := compiledWith(t, text, o).Run(wide, 1000); !sameOutcome(got, want) {
+		t.Errorf("P2: the same text compiled again with %+v: %v, want %v", o, got, want)
 	}
 }
 
 func TestP2RunsAtTheSameTime(t *testing.T) {
-	c := compiled(t, "variable x 200 0 do x @ i + x ! loop x @ dup .")
+	c := compiledWith(t, "variable x 200 0 do x @ i + x ! loop x @ dup .", api.Options{Fold: true, Tail: true, Super: true})
 	want := c.Run(wide, 10000)
 	outcomes := make([]api.Outcome, 8)
 	var all sync.WaitGroup

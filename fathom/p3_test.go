@@ -137,3 +137,29 @@ func TestP3TheFirstErrorThatIsMet(t *testing.T) {
 		t.Fatalf("only %d texts with an error inside", inside)
 	}
 }
+
+func TestP3OptionsMakeNoDifference(t *testing.T) {
+	tokens := strings.Fields(everyToken + " a b 5 -7 0 1 1 2 dup dup drop swap + 99999999999999999999 ; then until loop : a : b if begin do while repeat variable x constant y 3")
+	c := &chance{16}
+	count := map[api.Errno]int{}
+	for range 5000 {
+		text := soup(c, tokens)
+		x, e, at := Compile(text, api.Options{})
+		count[e]++
+		if e != api.OK {
+			refused(t, text, e, at)
+			continue
+		}
+		if x == nil || at != 0 {
+			t.Fatalf("P3: %q: code %v, place %d", text, x != nil, at)
+		}
+		for _, o := range allOptions() {
+			compiledWith(t, text, o)
+		}
+	}
+	for _, e := range []api.Errno{api.OK, api.ErrWord, api.ErrName, api.ErrNest} {
+		if count[e] < 100 {
+			t.Errorf("%d came out %d times only", e, count[e])
+		}
+	}
+}

@@ -17,9 +17,14 @@ type listing struct {
 
 func checkListings(t *testing.T, l ...listing) {
 	t.Helper()
+	checkListingsWith(t, api.Options{}, l...)
+}
+
+func checkListingsWith(t *testing.T, o api.Options, l ...listing) {
+	t.Helper()
 	for _, c := range l {
-		if got, entry := compiled(t, c.text).List(); !slices.Equal(got, c.list) || entry != c.entry {
-			t.Errorf("P4: %q: %v, %d, want %v, %d", c.text, got, entry, c.list, c.entry)
+		if got, entry := compiledWith(t, c.text, o).List(); !slices.Equal(got, c.list) || entry != c.entry {
+			t.Errorf("P4: %q with %+v: %v, %d, want %v, %d", c.text, o, got, entry, c.list, c.entry)
 		}
 	}
 }
@@ -203,5 +208,83 @@ func TestP4ProgramsOfEveryShape(t *testing.T) {
 	}
 	if checked < 2000 {
 		t.Errorf("only %d programs were short enough", checked)
+	}
+}
+
+func TestP4Tail(t *testing.T) {
+	checkListingsWith(t, api.Options{Tail: true},
+		listing{"", instrs{halt}, 0},
+		listing{": f dup if 1 - recurse then ; 3 f .", instrs{
+			op(api.Dup), to(api.Jumpz, 5), lit(1), op(api.Sub), to(api.Jump, 0), ret, lit(3), to(api.Call, 0), op(api.Dot), halt}, 6},
+		listing{": a recurse ;", instrs{to(api.Jump, 0), ret, halt}, 2},
+		listing{": a ; : b a ; : c b ; c", instrs{ret, to(api.Jump, 0), ret, to(api.Jump, 1), ret, to(api.Call, 3), halt}, 5},
+		// Of two calls the second one alone; of none that something stands behind.
+		listing{": a ; : b a a ; b b", instrs{ret, to(api.Call, 0), to(api.Jump, 0), ret, to(api.Call, 1), to(api.Call, 1), halt}, 4},
+		listing{": a ; : b a 1 ; b", instrs{ret, to(api.Call, 0), lit(1), ret, to(api.Call, 1), halt}, 4},
+		// A Jump to a Ret is no Ret.
+		listing{": a ; : b if a else a then ;", instrs{
+			ret, to(api.Jumpz, 4), to(api.Call, 0), to(api.Jump, 5), to(api.Jump, 0), ret, halt}, 6},
+		listing{": a if recurse then ;", instrs{to(api.Jumpz, 2), to(api.Jump, 0), ret, halt}, 3},
+		listing{": a begin recurse until ;", instrs{to(api.Call, 0), to(api.Jumpz, 0), ret, halt}, 3},
+		listing{": a begin while recurse repeat ;", instrs{to(api.Jumpz, 3), to(api.Call, 0), to(api.Jump, 0), ret, halt}, 4},
+		listing{": a do recurse loop ;", instrs{op(api.Do), to(api.Call, 0), to(api.Loop, 1), ret, halt}, 4},
+		// The main part ends with a Halt, and definitions written behind it stand ahead of it.
+		listing{": a ; a : b a ;", instrs{ret, to(api.Jump, 0), ret, to(api.Call, 0), halt}, 3},
+		listing{": a 1 ; : b 2 a ; b begin a until", instrs{lit(1), ret, lit(2), to(api.Jump, 0), ret, to(api.Call, 2), to(api.Call, 0), to(api.Jumpz, 6), halt}, 5})
+}
+
+func TestP4TailOnProgramsOfEveryShape(t *testing.T) {
+	s := &sketch{chance: &chance{9}}
+	calls := 0
+	for range 2000 {
+		p := s.program()
+		if len(p.text) > api.MaxText {
+			continue
+		}
+		for i, in := range p.list {
+			if in.Op == api.Call && p.list[i+1] == ret {
+				p.list[i] = to(api.Jump, in.Arg)
+				calls++
+			}
+		}
+		checkListingsWith(t, api.Options{Tail: true}, p)
+	}
+	if calls < 100 {
+		t.Errorf("only %d calls stood ahead of a Ret", calls)
+	}
+}
+
+func TestP4TailNeedsNoCalls(t *testing.T) {
+	text := ": f dup if 1 - recurse then ; 900 f ."
+	l := api.Limits{Stack: 3, Aside: 1, Calls: 1, Output: 10}
+	for _, o := range allOptions() {
+		want := api.ErrCalls
+		if o.Tail {
+			want = api.OK
+		}
+		if got := compiledWith(t, text, o).Run(l, 10000); got.Err != want {
+			t.Errorf("P4: %v: %s", o, told(got))
+		}
+	}
+}
+
+func TestP4NoNumberWhereThereIsNone(t *testing.T) {
+	s := &sketch{chance: &chance{10}}
+	check := func(text string) {
+		for _, o := range allOptions() {
+			l, _ := compiledWith(t, text, o).List()
+			for k, in := range l {
+				has := in.Op == api.Lit || in.Op == api.Jump || in.Op == api.Jumpz || in.Op == api.Call || in.Op == api.Loop
+				if in.Op <= api.LastBase && !has && in.Arg != 0 {
+					t.Fatalf("P4: %q with %+v: instruction %d is %v", text, o, k, in)
+				}
+			}
+		}
+	}
+	check(": f if 1 else 2 then ; 3 f 4 0 if 5 . then 6 drop -7 invert . 8 9 swap + . begin 1 while 2 drop repeat")
+	for range 300 {
+		if p := s.program(); len(p.text) <= api.MaxText {
+			check(p.text)
+		}
 	}
 }

@@ -7,7 +7,7 @@ import (
 )
 
 type machine struct {
-	operators table
+	operators *Table
 	limits    api.Limits
 	list      []api.Instr
 	at        int // the number of the instruction that comes next
@@ -20,12 +20,12 @@ type machine struct {
 	output    []byte
 }
 
-// Run runs a program, for so many steps at most.
-func Run(p code.Program, l api.Limits, fuel int) api.Outcome {
+// Run runs a program by this table, for so many steps at most.
+func (t *Table) Run(p code.Program, l api.Limits, fuel int) api.Outcome {
 	if !areLimits(l.Stack, l.Aside, l.Calls, l.Output) {
 		return api.Outcome{Err: api.ErrLimit}
 	}
-	m := newMachine(p, l)
+	m := newMachine(t, p, l)
 	e := m.run(fuel)
 	o := api.Outcome{Err: e, Output: string(m.output), Steps: m.steps}
 	if e == api.OK {
@@ -44,8 +44,8 @@ func areLimits(l ...int) bool {
 	return true
 }
 
-func newMachine(p code.Program, l api.Limits) *machine {
-	return &machine{operators: newTable(), limits: l, list: p.List, at: p.Entry, cells: make([]int64, p.Cells)}
+func newMachine(t *Table, p code.Program, l api.Limits) *machine {
+	return &machine{operators: t, limits: l, list: p.List, at: p.Entry, cells: make([]int64, p.Cells)}
 }
 
 func (m *machine) run(fuel int) api.Errno {
@@ -68,11 +68,11 @@ func (m *machine) do(in api.Instr) api.Errno {
 	if e := m.check(o); e != api.OK {
 		return e
 	}
-	x := m.take(o.stack.takes)
+	x := m.take(o.stack.Takes)
 	e := o.do(m, in.Arg, x)
 	if e != api.OK {
 		// With an error nothing is done: nor are these taken.
-		m.push(x[:o.stack.takes]...)
+		m.push(x[:o.stack.Takes]...)
 	}
 	return e
 }
@@ -80,13 +80,13 @@ func (m *machine) do(in api.Instr) api.Errno {
 // check finds the errors that come ahead of those that an operator's function has.
 func (m *machine) check(o *operator) api.Errno {
 	switch {
-	case o.stack.isUnder(len(m.stack)):
+	case o.stack.IsUnder(len(m.stack)):
 		return api.ErrUnder
-	case o.stack.isOver(len(m.stack), m.limits.Stack):
+	case o.stack.IsOver(len(m.stack), m.limits.Stack):
 		return api.ErrOver
-	case o.aside.isUnder(len(m.aside)):
+	case o.aside.IsUnder(len(m.aside)):
 		return api.ErrLow
-	case o.aside.isOver(len(m.aside), m.limits.Aside):
+	case o.aside.IsOver(len(m.aside), m.limits.Aside):
 		return api.ErrHigh
 	}
 	return api.OK

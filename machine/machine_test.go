@@ -13,7 +13,7 @@ import (
 // made answers a machine whose limits leave room for one more of each, and which has two cells, at instruction 5.
 func made(stack, aside []int64, calls []int) *machine {
 	l := api.Limits{Stack: len(stack) + 1, Aside: len(aside) + 1, Calls: len(calls) + 1, Output: 2}
-	m := newMachine(code.Program{Entry: 5, Cells: 2}, l)
+	m := newMachine(NewTable(), code.Program{Entry: 5, Cells: 2}, l)
 	m.push(stack...)
 	m.putAside(aside...)
 	m.calls = slices.Clone(calls)
@@ -140,7 +140,7 @@ func TestOneThatStandsForSeveralDoesWhatItsPartsDo(t *testing.T) {
 }
 
 func TestTheTableHasEachOperator(t *testing.T) {
-	operators := newTable()
+	operators := NewTable()
 	for op := range operators {
 		is := op <= api.LastBase || op >= api.LitAdd
 		if (operators[op].do != nil) != is {
@@ -150,7 +150,7 @@ func TestTheTableHasEachOperator(t *testing.T) {
 }
 
 func TestTheTableTellsWhatEachTakesAndGives(t *testing.T) {
-	operators := newTable()
+	operators := NewTable()
 	for op := range api.LastBase + 1 {
 		m := made(row{1, 1, 1, 1}, row{9, 1, 1}, []int{3})
 		m.limits = api.Limits{Stack: 9, Aside: 9, Calls: 9, Output: 9}
@@ -158,7 +158,7 @@ func TestTheTableTellsWhatEachTakesAndGives(t *testing.T) {
 			t.Errorf("operator %d: %d", op, e)
 		}
 		o := operators[op]
-		stack, aside := 4-o.stack.takes+o.stack.gives, 3-o.aside.takes+o.aside.gives
+		stack, aside := 4-o.stack.Takes+o.stack.Gives, 3-o.aside.Takes+o.aside.Gives
 		if len(m.stack) != stack || len(m.aside) != aside {
 			t.Errorf("operator %d: %d on the stack and %d aside, but by the table %d and %d", op, len(m.stack), len(m.aside), stack, aside)
 		}
