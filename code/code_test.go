@@ -48,6 +48,15 @@ func TestNamesInstruction(t *testing.T) {
 	}
 }
 
+func TestGoesOn(t *testing.T) {
+	for op := range api.LastSuper + 1 {
+		want := op != api.Jump && op != api.Ret && op != api.Halt
+		if GoesOn(op) != want {
+			t.Errorf("operator %d: %v", op, !want)
+		}
+	}
+}
+
 func TestAnErrorGivesNoProgram(t *testing.T) {
 	p, e := Load([]api.Instr{{Op: api.Lit}}, 0, 5)
 	if e != api.ErrCode || p.List != nil || p.Entry != 0 || p.Cells != 0 {

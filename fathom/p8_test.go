@@ -44,10 +44,10 @@ func checkSame(t *testing.T, text string, l api.Limits, o api.Options, c *Code, 
 	}
 }
 
-// checkSameEnd asks for the same with just as much fuel as was used, with one more and with much more.
+// checkSameEnd asks for the same with just as much fuel as was used, and with much more.
 func checkSameEnd(t *testing.T, text string, l api.Limits, o api.Options, c *Code, want api.Outcome) {
 	t.Helper()
-	for _, fuel := range []int{want.Steps, want.Steps + 1, want.Steps + 1000} {
+	for _, fuel := range []int{want.Steps, want.Steps + 1000} {
 		got := c.Run(l, fuel)
 		steps := got.Steps
 		got.Steps = want.Steps
@@ -164,6 +164,36 @@ func TestP8WhatWasPutOutAheadOfAnError(t *testing.T) {
 			checkUnseen(t, text, 1000, api.Limits{Stack: 9, Aside: 9, Calls: 9, Output: n}, api.Limits{Stack: 9, Aside: n, Calls: 9, Output: 99},
 				api.Limits{Stack: 9, Aside: 9, Calls: n, Output: 99}, api.Limits{Stack: n, Aside: 9, Calls: 9, Output: 99})
 		}
+	}
+}
+
+// Every two words in a row, on values and limits of several kinds; more of them by chance.
+func TestP8EveryShortRow(t *testing.T) {
+	words := strings.Fields("0 1 -1 3 + - * / mod and or xor invert negate = < dup drop swap over rot >r r> r@ i @ ! . emit")
+	var limits []api.Limits
+	for _, n := range []int{1, 2, 3, 4, 6} {
+		limits = append(limits, api.Limits{Stack: n, Aside: 2, Calls: 2, Output: 12})
+	}
+	given := []string{"", "3 -7 ", "6 -3 4 1 "}
+	check := func(row string) {
+		for _, values := range given {
+			checkUnseen(t, "variable v : f "+row+"; 9 >r "+values+"f .", 50, limits...)
+		}
+		// What is done ahead may be known to leave room and values.
+		checkUnseen(t, "variable v : f + dup "+row+"; 6 -3 4 1 f", 50, limits...)
+	}
+	for _, a := range words {
+		for _, b := range words {
+			check(a + " " + b + " ")
+		}
+	}
+	c := &chance{18}
+	for range 300 {
+		row := ""
+		for range 3 + c.below(3) {
+			row += words[c.below(len(words))] + " "
+		}
+		check(row)
 	}
 }
 

@@ -162,5 +162,20 @@ func TestTheTableTellsWhatEachTakesAndGives(t *testing.T) {
 		if len(m.stack) != stack || len(m.aside) != aside {
 			t.Errorf("operator %d: %d on the stack and %d aside, but by the table %d and %d", op, len(m.stack), len(m.aside), stack, aside)
 		}
+		if c := operators.Change(op); c != o.stack {
+			t.Errorf("operator %d: %v, want %v", op, c, o.stack)
+		}
+	}
+}
+
+func TestOneTableServesManyRuns(t *testing.T) {
+	operators := NewTable()
+	p := code.Program{List: []api.Instr{{Op: api.Lit, Arg: 3}, {Op: api.LitAdd, Arg: 4}, {Op: api.Halt}}}
+	first := operators.Run(p, api.Limits{Stack: 2, Aside: 1, Calls: 1, Output: 1}, 9)
+	operators.Run(p, api.Limits{Stack: 1, Aside: 1, Calls: 1, Output: 1}, 9)
+	second := operators.Run(p, api.Limits{Stack: 2, Aside: 1, Calls: 1, Output: 1}, 9)
+	first.Stack[0] = 99
+	if second.Err != api.OK || !slices.Equal(second.Stack, row{7}) {
+		t.Errorf("%v", second)
 	}
 }

@@ -5,8 +5,9 @@ import (
 	"fathom/machine"
 )
 
-// known is what is known of the stack where a run comes to: so many values it has at least, and so much room for more.
-// Whatever an instruction ahead took was there, and whatever it gave had room, or the run had ended with an error.
+// known is what is known of the stack at a place that a run comes to: it has so many values at least, and at least so
+// much room for more. Whatever an instruction ahead took was there, and whatever it gave had room: or the run would have
+// ended with an error.
 type known struct{ values, room int }
 
 func (f *folder) knownBehind(row []api.Instr) known {
@@ -28,9 +29,7 @@ func (f *folder) failsAlike(k known, old, short, next []api.Instr) bool {
 	most := 3 * len(before)
 	for values := k.values; values <= k.values+most; values++ {
 		for room := k.room; room <= k.room+most; room++ {
-			limit := values + room
-			// There is no stack whose limit is 0.
-			if limit > 0 && !isAlike(before, after, values, limit) {
+			if !isAlike(before, after, values, values+room) {
 				return false
 			}
 		}

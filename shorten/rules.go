@@ -59,7 +59,10 @@ func (f *folder) reckoned(row []api.Instr) ([]api.Instr, bool) {
 	p := code.Program{List: slices.Concat(row, ops(api.Halt))}
 	wide := api.Limits{Stack: api.MaxLimit, Aside: api.MaxLimit, Calls: api.MaxLimit, Output: api.MaxLimit}
 	o := f.table.Run(p, wide, len(p.List))
-	return lits(o.Stack...), o.Err == api.OK && len(o.Stack) < len(row)
+	if o.Err != api.OK || len(o.Stack) >= len(row) {
+		return nil, false
+	}
+	return lits(o.Stack...), true
 }
 
 // areReckoning tells whether instructions have to do with the stack alone.
@@ -82,7 +85,10 @@ func (f *folder) chained(row []api.Instr) ([]api.Instr, bool) {
 		return nil, false
 	}
 	n, ok := f.reckoned(slices.Concat(lits(row[0].Arg, row[2].Arg), ops(join)))
-	return append(n, ops(op)...), ok
+	if !ok {
+		return nil, false
+	}
+	return append(n, ops(op)...), true
 }
 
 // link answers by which operator the numbers of two others in turn are joined, and which operator is left.
